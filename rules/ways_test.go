@@ -1,0 +1,78 @@
+package rules
+
+import (
+	"go/ast"
+	"testing"
+)
+
+// landed are the ways of the layers that are built: a layer's row of the document's section 'Ways'.
+func landed() map[string][]string {
+	return map[string][]string{
+		"num": {"variadic", "closure"},
+	}
+}
+
+// finder tells by a part of a file whether it is of a way.
+type finder func(n ast.Node) bool
+
+// finders has a finder of each way that a landed layer leans on.
+func finders() map[string]finder {
+	return map[string]finder{
+		"variadic": isVariadic,
+		"closure":  isHandedOn,
+	}
+}
+
+// isVariadic tells whether it is an exported function of as many as one likes.
+func isVariadic(n ast.Node) bool {
+	f, is := n.(*ast.FuncDecl)
+	if !is || !f.Name.IsExported() {
+		return false
+	}
+	for _, p := range f.Type.Params.List {
+		if _, is := p.Type.(*ast.Ellipsis); is {
+			return true
+		}
+	}
+	return false
+}
+
+// isHandedOn tells whether it is a call that a function literal is handed on to.
+func isHandedOn(n ast.Node) bool {
+	c, is := n.(*ast.CallExpr)
+	if !is {
+		return false
+	}
+	for _, a := range c.Args {
+		if _, is := a.(*ast.FuncLit); is {
+			return true
+		}
+	}
+	return false
+}
+
+// has tells whether a finder finds something in a package.
+func has(t *testing.T, pack string, find finder) bool {
+	t.Helper()
+	found := false
+	for _, x := range sources(t, pack) {
+		ast.Inspect(x.tree, func(n ast.Node) bool {
+			found = found || find(n)
+			return !found
+		})
+	}
+	return found
+}
+
+func TestWays(t *testing.T) {
+	for pack, ways := range landed() {
+		for _, way := range ways {
+			find := finders()[way]
+			if find == nil {
+				t.Errorf("%s: no finder of %s", pack, way)
+			} else if !has(t, pack, find) {
+				t.Errorf("%s leans on no %s: the section 'Ways' asks for it", pack, way)
+			}
+		}
+	}
+}
