@@ -8,7 +8,8 @@ import (
 // landed are the ways of the layers that are built: a layer's row of the document's section 'Ways'.
 func landed() map[string][]string {
 	return map[string][]string{
-		"num": {"variadic", "closure"},
+		"num":   {"variadic", "closure"},
+		"float": {"variadic", "float", "closure"},
 	}
 }
 
@@ -20,6 +21,7 @@ func finders() map[string]finder {
 	return map[string]finder{
 		"variadic": isVariadic,
 		"closure":  isHandedOn,
+		"float":    isFloat,
 	}
 }
 
@@ -49,6 +51,12 @@ func isHandedOn(n ast.Node) bool {
 		}
 	}
 	return false
+}
+
+// isFloat tells whether it is the name of the floats' type.
+func isFloat(n ast.Node) bool {
+	name, is := n.(*ast.Ident)
+	return is && name.Name == "float64"
 }
 
 // has tells whether a finder finds something in a package.
