@@ -8,8 +8,9 @@ import (
 // landed are the ways of the layers that are built: a layer's row of the document's section 'Ways'.
 func landed() map[string][]string {
 	return map[string][]string{
-		"num":   {"variadic", "closure"},
-		"float": {"variadic", "float", "closure"},
+		"num":    {"variadic", "closure"},
+		"float":  {"variadic", "float", "closure"},
+		"bitmap": {"variadic", "closure"},
 	}
 }
 
