@@ -11,6 +11,7 @@ func landed() map[string][]string {
 		"num":    {"variadic", "closure"},
 		"float":  {"variadic", "float", "closure"},
 		"bitmap": {"variadic", "closure"},
+		"arena":  {"variadic", "panic", "recover", "defer", "type-switch", "copy", "clear"},
 	}
 }
 
@@ -20,10 +21,63 @@ type finder func(n ast.Node) bool
 // finders has a finder of each way that a landed layer leans on.
 func finders() map[string]finder {
 	return map[string]finder{
-		"variadic": isVariadic,
-		"closure":  isHandedOn,
-		"float":    isFloat,
+		"variadic":    isVariadic,
+		"closure":     isHandedOn,
+		"float":       isFloat,
+		"panic":       isThrown,
+		"recover":     isCaught,
+		"defer":       isDeferred,
+		"type-switch": isTypeSwitch,
+		"copy":        calls("copy"),
+		"clear":       calls("clear"),
 	}
+}
+
+// calls is a finder of the calls of a function that the language has.
+func calls(name string) finder {
+	return func(n ast.Node) bool {
+		c, is := n.(*ast.CallExpr)
+		if !is {
+			return false
+		}
+		f, is := c.Fun.(*ast.Ident)
+		return is && f.Name == name
+	}
+}
+
+// isThrown tells whether it is a panic with more than a name: what was caught and goes on has one.
+func isThrown(n ast.Node) bool {
+	if !calls("panic")(n) {
+		return false
+	}
+	for _, thrown := range n.(*ast.CallExpr).Args {
+		if _, is := thrown.(*ast.Ident); is {
+			return false
+		}
+	}
+	return true
+}
+
+// isCaught tells whether it is a function literal, deferred, that asks what was thrown: elsewhere recover catches nothing.
+func isCaught(n ast.Node) bool {
+	d, is := n.(*ast.DeferStmt)
+	if !is {
+		return false
+	}
+	f, is := d.Call.Fun.(*ast.FuncLit)
+	return is && within(f.Body, calls("recover"))
+}
+
+// isDeferred tells whether it is a call that is put off.
+func isDeferred(n ast.Node) bool {
+	_, is := n.(*ast.DeferStmt)
+	return is
+}
+
+// isTypeSwitch tells whether it is a choice by a type.
+func isTypeSwitch(n ast.Node) bool {
+	_, is := n.(*ast.TypeSwitchStmt)
+	return is
 }
 
 // isVariadic tells whether it is an exported function of as many as one likes.
@@ -65,11 +119,18 @@ func has(t *testing.T, pack string, find finder) bool {
 	t.Helper()
 	found := false
 	for _, x := range sources(t, pack) {
-		ast.Inspect(x.tree, func(n ast.Node) bool {
-			found = found || find(n)
-			return !found
-		})
+		found = found || within(x.tree, find)
 	}
+	return found
+}
+
+// within tells whether a finder finds something in a part of a file.
+func within(part ast.Node, find finder) bool {
+	found := false
+	ast.Inspect(part, func(n ast.Node) bool {
+		found = found || find(n)
+		return !found
+	})
 	return found
 }
 
