@@ -12,6 +12,7 @@ func landed() map[string][]string {
 		"float":  {"variadic", "float", "closure"},
 		"bitmap": {"variadic", "closure"},
 		"arena":  {"variadic", "panic", "recover", "defer", "type-switch", "copy", "clear"},
+		"index":  {"variadic", "panic", "recover", "defer", "type-switch", "closure"},
 	}
 }
 
