@@ -13,6 +13,7 @@ func landed() map[string][]string {
 		"bitmap": {"variadic", "closure"},
 		"arena":  {"variadic", "panic", "recover", "defer", "type-switch", "copy", "clear"},
 		"index":  {"variadic", "panic", "recover", "defer", "type-switch", "closure"},
+		"runs":   {"variadic", "closure"},
 	}
 }
 
