@@ -42,6 +42,7 @@ func sources(t *testing.T, pack string) []source {
 	if err != nil {
 		t.Fatal(err)
 	}
+	set := token.NewFileSet()
 	var l []source
 	for _, name := range names {
 		if strings.HasSuffix(name, "_test.go") {
@@ -51,7 +52,6 @@ func sources(t *testing.T, pack string) []source {
 		if err != nil {
 			t.Fatal(err)
 		}
-		set := token.NewFileSet()
 		tree, err := parser.ParseFile(set, name, text, parser.ParseComments)
 		if err != nil {
 			t.Fatal(err)

@@ -2,6 +2,7 @@ package rules
 
 import (
 	"go/ast"
+	"go/types"
 	"testing"
 )
 
@@ -14,14 +15,15 @@ func landed() map[string][]string {
 		"arena":  {"variadic", "panic", "recover", "defer", "type-switch", "copy", "clear"},
 		"index":  {"variadic", "panic", "recover", "defer", "type-switch", "closure"},
 		"runs":   {"variadic", "closure"},
+		"heap":   {"variadic", "map", "closure", "embedding", "promoted"},
 	}
 }
 
 // finder tells by a part of a file whether it is of a way.
 type finder func(n ast.Node) bool
 
-// finders has a finder of each way that a landed layer leans on.
-func finders() map[string]finder {
+// finders has a finder of each way that a landed layer leans on; some ask for types of what stands in the package's files.
+func finders(info *types.Info) map[string]finder {
 	return map[string]finder{
 		"variadic":    isVariadic,
 		"closure":     isHandedOn,
@@ -32,6 +34,9 @@ func finders() map[string]finder {
 		"type-switch": isTypeSwitch,
 		"copy":        calls("copy"),
 		"clear":       calls("clear"),
+		"map":         isMap,
+		"embedding":   embeds(info),
+		"promoted":    promotes(info),
 	}
 }
 
@@ -116,11 +121,44 @@ func isFloat(n ast.Node) bool {
 	return is && name.Name == "float64"
 }
 
-// has tells whether a finder finds something in a package.
-func has(t *testing.T, pack string, find finder) bool {
-	t.Helper()
+// isMap tells whether it is the type of a map.
+func isMap(n ast.Node) bool {
+	_, is := n.(*ast.MapType)
+	return is
+}
+
+// embeds is a finder of literals of structs that have another one for their own: the struct may be one of package api.
+func embeds(info *types.Info) finder {
+	return func(n ast.Node) bool {
+		c, is := n.(*ast.CompositeLit)
+		if !is || len(c.Elts) == 0 {
+			return false
+		}
+		s, is := info.TypeOf(c).Underlying().(*types.Struct)
+		if !is {
+			return false
+		}
+		for f := range s.Fields() {
+			if f.Embedded() {
+				return true
+			}
+		}
+		return false
+	}
+}
+
+// promotes is a finder of what is asked of a struct that another one has for its own, by that one's name.
+func promotes(info *types.Info) finder {
+	return func(n ast.Node) bool {
+		x, is := n.(*ast.SelectorExpr)
+		return is && info.Selections[x] != nil && len(info.Selections[x].Index()) > 1
+	}
+}
+
+// has tells whether a finder finds something in a package's files.
+func has(files []source, find finder) bool {
 	found := false
-	for _, x := range sources(t, pack) {
+	for _, x := range files {
 		found = found || within(x.tree, find)
 	}
 	return found
@@ -137,12 +175,15 @@ func within(part ast.Node, find finder) bool {
 }
 
 func TestWays(t *testing.T) {
+	l := newLoader(t)
 	for pack, ways := range landed() {
+		x := l.load(pack)
+		all := finders(x.info)
 		for _, way := range ways {
-			find := finders()[way]
+			find := all[way]
 			if find == nil {
 				t.Errorf("%s: no finder of %s", pack, way)
-			} else if !has(t, pack, find) {
+			} else if !has(x.files, find) {
 				t.Errorf("%s leans on no %s: the section 'Ways' asks for it", pack, way)
 			}
 		}
