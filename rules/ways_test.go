@@ -16,6 +16,7 @@ func landed() map[string][]string {
 		"index":  {"variadic", "panic", "recover", "defer", "type-switch", "closure"},
 		"runs":   {"variadic", "closure"},
 		"heap":   {"variadic", "map", "closure", "embedding", "promoted"},
+		"chain":  {"variadic", "map", "closure"},
 	}
 }
 
