@@ -17,6 +17,7 @@ func landed() map[string][]string {
 		"runs":   {"variadic", "closure"},
 		"heap":   {"variadic", "map", "closure", "embedding", "promoted"},
 		"chain":  {"variadic", "map", "closure"},
+		"pool":   {"variadic", "embedding", "promoted", "map", "closure"},
 	}
 }
 
