@@ -2,6 +2,7 @@ package rules
 
 import (
 	"go/ast"
+	"go/token"
 	"go/types"
 	"testing"
 )
@@ -18,6 +19,7 @@ func landed() map[string][]string {
 		"heap":   {"variadic", "map", "closure", "embedding", "promoted"},
 		"chain":  {"variadic", "map", "closure"},
 		"pool":   {"variadic", "embedding", "promoted", "map", "closure"},
+		"large":  {"variadic", "closure", "struct-compared"},
 	}
 }
 
@@ -27,18 +29,19 @@ type finder func(n ast.Node) bool
 // finders has a finder of each way that a landed layer leans on; some ask for types of what stands in the package's files.
 func finders(info *types.Info) map[string]finder {
 	return map[string]finder{
-		"variadic":    isVariadic,
-		"closure":     isHandedOn,
-		"float":       isFloat,
-		"panic":       isThrown,
-		"recover":     isCaught,
-		"defer":       isDeferred,
-		"type-switch": isTypeSwitch,
-		"copy":        calls("copy"),
-		"clear":       calls("clear"),
-		"map":         isMap,
-		"embedding":   embeds(info),
-		"promoted":    promotes(info),
+		"variadic":        isVariadic,
+		"closure":         handsOn(info),
+		"float":           isFloat,
+		"panic":           isThrown,
+		"recover":         isCaught,
+		"defer":           isDeferred,
+		"type-switch":     isTypeSwitch,
+		"copy":            calls("copy"),
+		"clear":           calls("clear"),
+		"map":             isMap,
+		"embedding":       embeds(info),
+		"promoted":        promotes(info),
+		"struct-compared": comparesStructs(info),
 	}
 }
 
@@ -103,18 +106,25 @@ func isVariadic(n ast.Node) bool {
 	return false
 }
 
-// isHandedOn tells whether it is a call that a function literal is handed on to.
-func isHandedOn(n ast.Node) bool {
-	c, is := n.(*ast.CallExpr)
-	if !is {
+// handsOn is a finder of calls that a function literal is handed on to, or a function that another call answered.
+func handsOn(info *types.Info) finder {
+	return func(n ast.Node) bool {
+		c, is := n.(*ast.CallExpr)
+		if !is {
+			return false
+		}
+		for _, a := range c.Args {
+			switch a.(type) {
+			case *ast.FuncLit:
+				return true
+			case *ast.CallExpr:
+				if _, is := info.TypeOf(a).Underlying().(*types.Signature); is {
+					return true
+				}
+			}
+		}
 		return false
 	}
-	for _, a := range c.Args {
-		if _, is := a.(*ast.FuncLit); is {
-			return true
-		}
-	}
-	return false
 }
 
 // isFloat tells whether it is the name of the floats' type.
@@ -154,6 +164,18 @@ func promotes(info *types.Info) finder {
 	return func(n ast.Node) bool {
 		x, is := n.(*ast.SelectorExpr)
 		return is && info.Selections[x] != nil && len(info.Selections[x].Index()) > 1
+	}
+}
+
+// comparesStructs is a finder of structs that are held against each other.
+func comparesStructs(info *types.Info) finder {
+	return func(n ast.Node) bool {
+		x, is := n.(*ast.BinaryExpr)
+		if !is || x.Op != token.EQL && x.Op != token.NEQ {
+			return false
+		}
+		_, is = info.TypeOf(x.X).Underlying().(*types.Struct)
+		return is
 	}
 }
 
