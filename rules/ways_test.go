@@ -20,6 +20,7 @@ func landed() map[string][]string {
 		"chain":  {"variadic", "map", "closure"},
 		"pool":   {"variadic", "embedding", "promoted", "map", "closure"},
 		"large":  {"variadic", "closure", "struct-compared"},
+		"cache":  {"variadic", "array", "closure"},
 	}
 }
 
@@ -42,6 +43,7 @@ func finders(info *types.Info) map[string]finder {
 		"embedding":       embeds(info),
 		"promoted":        promotes(info),
 		"struct-compared": comparesStructs(info),
+		"array":           isArray,
 	}
 }
 
@@ -137,6 +139,12 @@ func isFloat(n ast.Node) bool {
 func isMap(n ast.Node) bool {
 	_, is := n.(*ast.MapType)
 	return is
+}
+
+// isArray tells whether it is the type of an array.
+func isArray(n ast.Node) bool {
+	a, is := n.(*ast.ArrayType)
+	return is && a.Len != nil
 }
 
 // embeds is a finder of literals of structs that have another one for their own: the struct may be one of package api.
