@@ -21,6 +21,7 @@ func landed() map[string][]string {
 		"pool":   {"variadic", "embedding", "promoted", "map", "closure"},
 		"large":  {"variadic", "closure", "struct-compared"},
 		"cache":  {"variadic", "array", "closure"},
+		"stacks": {"embedding", "promoted", "variadic", "closure"},
 	}
 }
 
