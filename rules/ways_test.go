@@ -22,6 +22,7 @@ func landed() map[string][]string {
 		"large":  {"variadic", "closure", "struct-compared"},
 		"cache":  {"variadic", "array", "closure"},
 		"stacks": {"embedding", "promoted", "variadic", "closure"},
+		"fns":    {"variadic", "embedding", "promoted", "closure"},
 	}
 }
 
