@@ -23,6 +23,7 @@ func landed() map[string][]string {
 		"cache":  {"variadic", "array", "closure"},
 		"stacks": {"embedding", "promoted", "variadic", "closure"},
 		"fns":    {"variadic", "embedding", "promoted", "closure"},
+		"frame":  {"variadic"},
 	}
 }
 
