@@ -24,6 +24,7 @@ func landed() map[string][]string {
 		"stacks": {"embedding", "promoted", "variadic", "closure"},
 		"fns":    {"variadic", "embedding", "promoted", "closure"},
 		"frame":  {"variadic"},
+		"walk":   {"variadic", "embedding", "promoted", "panic", "recover", "defer", "type-switch", "closure"},
 	}
 }
 
