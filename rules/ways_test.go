@@ -25,6 +25,7 @@ func landed() map[string][]string {
 		"fns":    {"variadic", "embedding", "promoted", "closure"},
 		"frame":  {"variadic"},
 		"walk":   {"variadic", "embedding", "promoted", "panic", "recover", "defer", "type-switch", "closure"},
+		"slots":  {"variadic", "closure", "struct-compared"},
 	}
 }
 
