@@ -26,6 +26,7 @@ func landed() map[string][]string {
 		"frame":  {"variadic"},
 		"walk":   {"variadic", "embedding", "promoted", "panic", "recover", "defer", "type-switch", "closure"},
 		"slots":  {"variadic", "closure", "struct-compared"},
+		"move":   {"variadic", "embedding", "promoted", "panic", "recover", "defer", "type-switch", "closure"},
 	}
 }
 
