@@ -677,8 +677,9 @@ func TestByTable(t *testing.T) {
 		{api.Stack{Lo: 0, Size: 16}, 32, 32, 48}, {api.Stack{Lo: 32, Size: 32}, 0, 16, -48}, {api.Stack{Lo: 32, Size: 32}, 32, 32, 0}, {api.Stack{Lo: 32, Size: 32}, 48, 16, 0}, {api.Stack{}, 0, 0, 0}, {api.Stack{}, 1, 0, 1}, {api.Stack{}, 0, 1, 1}, {api.Stack{Lo: 1}, 0, 0, -1}, {api.Stack{Size: 1}, 0, 0, -1}, {api.Stack{Lo: 3, Size: 7}, 5, 11, 6},
 		{api.Stack{}, most, most, 2 * most}, {api.Stack{Lo: most, Size: most}, 0, 0, -2 * most}, {api.Stack{Lo: most, Size: most}, most, most - 1, -1}, {api.Stack{Lo: most}, 0, most, 0},
 		{api.Stack{Lo: most + 1}, 0, 0, 0}, {api.Stack{Size: most + 1}, 0, 0, 0}, {api.Stack{}, most + 1, 0, 0}, {api.Stack{}, 0, most + 1, 0}, {api.Stack{Lo: -1}, 5, 5, 0}, {api.Stack{Size: -1}, 5, 5, 0}, {api.Stack{Lo: 5}, -1, 5, 0}, {api.Stack{Lo: 5}, 5, -1, 0}, {api.Stack{Lo: math.MinInt, Size: math.MinInt}, math.MaxInt, math.MaxInt, 0},
-		// Where SP is, no end hangs on.
-		{api.Stack{Lo: 0, Size: 16, SP: 9}, 32, 32, 48}, {api.Stack{Lo: 0, Size: 16, SP: 99}, 32, 32, 48}, {api.Stack{Lo: 0, Size: 16, SP: -1}, 32, 32, 48}, {api.Stack{Lo: 0, Size: 16, SP: math.MaxInt}, 32, 32, 48},
+		// Where SP is, no end hangs on; but it is one of the stack's numbers.
+		{api.Stack{Lo: 0, Size: 16, SP: 9}, 32, 32, 48}, {api.Stack{Lo: 0, Size: 16, SP: 99}, 32, 32, 48}, {api.Stack{Lo: 8, Size: 16, SP: 0}, 32, 32, 40}, {api.Stack{Lo: 0, Size: 16, SP: most}, 32, 32, 48},
+		{api.Stack{Lo: 0, Size: 16, SP: -1}, 32, 32, 0}, {api.Stack{Lo: 0, Size: 0, SP: -1}, 0, 1, 0}, {api.Stack{Lo: 0, Size: 16, SP: most + 1}, 32, 32, 0}, {api.Stack{Lo: 0, Size: 16, SP: math.MinInt}, 32, 32, 0}, {api.Stack{Lo: 0, Size: 16, SP: math.MaxInt}, 32, 32, 0},
 	} {
 		if got := move.By(c.s, c.lo, c.n); got != c.w {
 			t.Errorf("P17.1: By(%v, %d, %d) = %d, not %d", c.s, c.lo, c.n, got, c.w)
@@ -709,6 +710,23 @@ func TestByEach(t *testing.T) {
 					if got := move.By(api.Stack{Lo: lo, Size: n, SP: lo}, to, m); got != want {
 						t.Fatalf("P17.1: By({%d %d}, %d, %d) = %d, not %d", lo, n, to, m, got, want)
 					}
+				}
+			}
+		}
+	}
+}
+
+// TestBySP has each number as SP, beside each place and size.
+func TestBySP(t *testing.T) {
+	for _, sp := range numbers() {
+		for _, to := range numbers() {
+			for _, m := range numbers() {
+				want := 0
+				if plain(sp, to, m) {
+					want = to + m - 48
+				}
+				if got := move.By(api.Stack{Lo: 32, Size: 16, SP: sp}, to, m); got != want {
+					t.Fatalf("P17.1: By({32 16 %d}, %d, %d) = %d, not %d", sp, to, m, got, want)
 				}
 			}
 		}
