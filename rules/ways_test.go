@@ -27,6 +27,7 @@ func landed() map[string][]string {
 		"walk":   {"variadic", "embedding", "promoted", "panic", "recover", "defer", "type-switch", "closure"},
 		"slots":  {"variadic", "closure", "struct-compared"},
 		"move":   {"variadic", "embedding", "promoted", "panic", "recover", "defer", "type-switch", "closure"},
+		"policy": {"variadic", "closure"},
 	}
 }
 
