@@ -48,7 +48,7 @@ func (l *loader) load(pack string) *loaded {
 	for _, f := range files {
 		trees = append(trees, f.tree)
 	}
-	info := &types.Info{Types: map[ast.Expr]types.TypeAndValue{}, Selections: map[*ast.SelectorExpr]*types.Selection{}}
+	info := &types.Info{Types: map[ast.Expr]types.TypeAndValue{}, Uses: map[*ast.Ident]types.Object{}, Instances: map[*ast.Ident]types.Instance{}, Selections: map[*ast.SelectorExpr]*types.Selection{}}
 	config := types.Config{Importer: l}
 	p, err := config.Check("shoring/"+pack, files[0].set, trees, info)
 	if err != nil {

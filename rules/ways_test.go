@@ -28,6 +28,7 @@ func landed() map[string][]string {
 		"slots":  {"variadic", "closure", "struct-compared"},
 		"move":   {"variadic", "embedding", "promoted", "panic", "recover", "defer", "type-switch", "closure"},
 		"policy": {"variadic", "closure"},
+		"model":  {"embedding", "promoted", "panic", "recover", "defer", "type-switch", "closure", "variadic", "struct-compared", "float"},
 	}
 }
 
@@ -182,16 +183,38 @@ func promotes(info *types.Info) finder {
 	}
 }
 
-// comparesStructs is a finder of structs that are held against each other.
+// comparesStructs is a finder of structs that are held against each other, be it by a function of whatever can be.
 func comparesStructs(info *types.Info) finder {
 	return func(n ast.Node) bool {
-		x, is := n.(*ast.BinaryExpr)
-		if !is || x.Op != token.EQL && x.Op != token.NEQ {
-			return false
+		switch x := n.(type) {
+		case *ast.BinaryExpr:
+			return (x.Op == token.EQL || x.Op == token.NEQ) && isStruct(info.TypeOf(x.X))
+		case *ast.Ident:
+			return comparesItems(info, x)
 		}
-		_, is = info.TypeOf(x.X).Underlying().(*types.Struct)
-		return is
+		return false
 	}
+}
+
+// isStruct tells whether it is a struct's type.
+func isStruct(t types.Type) bool {
+	_, is := t.Underlying().(*types.Struct)
+	return is
+}
+
+// comparesItems tells whether it is the name of a function that holds structs against each other here, as its type parameter is of what can be.
+func comparesItems(info *types.Info, name *ast.Ident) bool {
+	f, is := info.Uses[name].(*types.Func)
+	if !is {
+		return false
+	}
+	params, args := f.Signature().TypeParams(), info.Instances[name].TypeArgs
+	for i := range args.Len() {
+		if types.Comparable(params.At(i)) && isStruct(args.At(i)) {
+			return true
+		}
+	}
+	return false
 }
 
 // has tells whether a finder finds something in a package's files.
