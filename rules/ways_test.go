@@ -29,6 +29,7 @@ func landed() map[string][]string {
 		"move":   {"variadic", "embedding", "promoted", "panic", "recover", "defer", "type-switch", "closure"},
 		"policy": {"variadic", "closure"},
 		"model":  {"embedding", "promoted", "panic", "recover", "defer", "type-switch", "closure", "variadic", "struct-compared", "float"},
+		"gor":    {"embedding", "promoted", "panic", "recover", "defer", "type-switch", "variadic", "float"},
 	}
 }
 
